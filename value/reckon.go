@@ -4,6 +4,7 @@ import (
 	"math"
 
 	"espalier/api"
+	"espalier/fresh"
 )
 
 // Reckon is a and b, put together by a sign.
@@ -61,23 +62,5 @@ func joinLists(a, b []api.Value) (api.Value, api.Errno) {
 	}
 	l := make([]api.Value, 0, len(a)+len(b))
 	l = append(append(l, a...), b...)
-	renew(l)
-	return api.Value{Kind: api.List, L: l}, api.OK
-}
-
-// renew lays all lists within l into memory of their own: an answer shares none. Those that are still to be laid are kept in a list, since what is joined may be as deep as it likes.
-func renew(l []api.Value) {
-	open := [][]api.Value{l}
-	for len(open) > 0 {
-		top := open[len(open)-1]
-		open = open[:len(open)-1]
-		for i, x := range top {
-			// An empty list may have room behind it that belongs to the caller.
-			top[i].L = nil
-			if len(x.L) > 0 {
-				top[i].L = append([]api.Value(nil), x.L...)
-				open = append(open, top[i].L)
-			}
-		}
-	}
+	return api.Value{Kind: api.List, L: fresh.Values(l)}, api.OK
 }
