@@ -5,6 +5,7 @@ import (
 
 	"espalier/api"
 	"espalier/fresh"
+	"espalier/seek"
 )
 
 // Prop is a property of a node or an edge; Null, if it hasn't that one.
@@ -25,10 +26,10 @@ func Prop(g api.Graph, id int, name string) (api.Value, api.Errno) {
 }
 
 func propsOf(g api.Graph, id int) ([]api.Prop, bool) {
-	if i, found := findNode(g.Nodes, id); found {
+	if i, found := seek.Node(g.Nodes, id); found {
 		return g.Nodes[i].Props, true
 	}
-	if i, found := findEdge(g.Edges, id); found {
+	if i, found := seek.Edge(g.Edges, id); found {
 		return g.Edges[i].Props, true
 	}
 	return nil, false

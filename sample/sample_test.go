@@ -41,3 +41,40 @@ func TestSampleIsTheSameAgain(t *testing.T) {
 		t.Error("below nothing")
 	}
 }
+
+func TestOpsNameWhatIsThere(t *testing.T) {
+	s := New(7)
+	kinds := map[int]int{}
+	for i := range 2000 {
+		g := s.Graph(i % 60)
+		for _, o := range s.Ops(g, 10) {
+			kinds[o.Kind]++
+			if graph.Labels(o.Labels) != api.OK || graph.Props(o.Props) != api.OK || value.Check(o.Value) != api.OK {
+				t.Errorf("%v", o)
+			}
+		}
+	}
+	for k := api.AddNode; k <= api.Untag; k++ {
+		if kinds[k] < 200 {
+			t.Errorf("kind %d: %d", k, kinds[k])
+		}
+	}
+	if len(kinds) != 7 {
+		t.Errorf("%v", kinds)
+	}
+}
+
+func TestPlainOnesAreRight(t *testing.T) {
+	if e := graph.Check(Town()); e != api.OK {
+		t.Errorf("town: %d", e)
+	}
+	if e := graph.Check(api.Graph{Nodes: Nodes(5), Edges: Loops(5, 5), Next: 11}); e != api.OK {
+		t.Errorf("loops: %d", e)
+	}
+	if graph.Labels(Names(4)) != api.OK || graph.Props(Numbered(6)) != api.OK {
+		t.Error("names")
+	}
+	if value.Check(LongText()) != api.ErrMany || value.Check(WrongText()) != api.ErrForm {
+		t.Error("texts")
+	}
+}

@@ -1,0 +1,144 @@
+// Package promises tests what DOC.md promises of every call: that it doesn't panic, answers the same again, only reads what it is handed, answers new memory, and nothing beside an error (P1 to P3).
+package promises
+
+import (
+	"reflect"
+	"testing"
+
+	"espalier/api"
+	"espalier/code"
+	"espalier/graph"
+	"espalier/sample"
+	"espalier/txn"
+	"espalier/value"
+)
+
+// call is one that the document lists, and what it takes: mostly right things.
+type call struct {
+	name string
+	f    any
+	at   bool // a number stands beside an error
+	tame func(s *sample.Source) []any
+}
+
+func calls() []call {
+	return append(lowCalls(), graphCalls()...)
+}
+
+func lowCalls() []call {
+	one := func(s *sample.Source) []any { return []any{s.Value(3)} }
+	two := func(s *sample.Source) []any { return []any{s.Value(3), s.Value(3)} }
+	return []call{
+		{"value.Check", value.Check, false, one},
+		{"value.Order", value.Order, false, two},
+		{"value.Same", value.Same, false, two},
+		{"value.Less", value.Less, false, two},
+		{"value.Reckon", value.Reckon, false, func(s *sample.Source) []any {
+			return []any{"+-*"[s.Below(3):][:1], s.Value(3), s.Value(3)}
+		}},
+		{"value.Print", value.Print, false, one},
+		{"value.Parse", value.Parse, true, func(s *sample.Source) []any {
+			text, _ := value.Print(s.Value(3))
+			return []any{text}
+		}},
+		{"code.Bytes", code.Bytes, false, one},
+		{"code.Value", code.Value, false, coded},
+		{"code.Long", code.Long, false, coded},
+		{"code.Frame", code.Frame, false, coded},
+		{"code.Frames", code.Frames, false, func(s *sample.Source) []any {
+			log := ""
+			for range s.Below(4) {
+				framed, _ := code.Frame(coded(s)[0].(string))
+				log += framed
+			}
+			return []any{log}
+		}},
+	}
+}
+
+func coded(s *sample.Source) []any {
+	b, _ := code.Bytes(s.Value(3))
+	return []any{b}
+}
+
+func graphCalls() []call {
+	return []call{
+		{"graph.Name", graph.Name, false, func(s *sample.Source) []any { return []any{wildText(s)} }},
+		{"graph.Labels", graph.Labels, false, func(s *sample.Source) []any { return []any{sample.Names(s.Below(5))} }},
+		{"graph.Props", graph.Props, false, func(s *sample.Source) []any { return []any{s.Props()} }},
+		{"graph.Check", graph.Check, false, func(s *sample.Source) []any { return []any{s.Graph(20)} }},
+		{"graph.Prop", graph.Prop, false, func(s *sample.Source) []any {
+			return []any{s.Graph(20), s.Below(9), "p" + "0123"[s.Below(4):][:1]}
+		}},
+		{"graph.Labelled", graph.Labelled, false, func(s *sample.Source) []any { return []any{s.Graph(20), wildText(s)} }},
+		{"graph.Around", graph.Around, false, func(s *sample.Source) []any {
+			return []any{s.Graph(20), s.Below(9), "", s.Below(2) == 0}
+		}},
+		{"txn.Apply", txn.Apply, true, func(s *sample.Source) []any {
+			g := s.Graph(20)
+			return []any{g, s.Ops(g, 8)}
+		}},
+		{"txn.Between", txn.Between, false, func(s *sample.Source) []any {
+			g, h := changed(s)
+			return []any{g, h}
+		}},
+		{"txn.Turn", txn.Turn, false, func(s *sample.Source) []any {
+			g, h := changed(s)
+			d, _ := txn.Between(g, h)
+			return []any{g, d}
+		}},
+		{"txn.Back", txn.Back, false, func(s *sample.Source) []any {
+			g, h := changed(s)
+			d, _ := txn.Between(g, h)
+			return []any{d}
+		}},
+	}
+}
+
+// changed is a graph, and another that has much in common with it.
+func changed(s *sample.Source) (api.Graph, api.Graph) {
+	g := s.Graph(20)
+	h, _, _, e := txn.Apply(g, s.Ops(g, 8))
+	if e != api.OK {
+		return g, g
+	}
+	return g, h
+}
+
+func TestRightArguments(t *testing.T) {
+	for _, c := range calls() {
+		s, went := sample.New(11), 0
+		for range 400 {
+			var args []reflect.Value
+			for _, x := range c.tame(s) {
+				args = append(args, reflect.ValueOf(x))
+			}
+			got := hold(t, c.name, c.f, c.at, args)
+			if e, ok := got[len(got)-1].Interface().(api.Errno); !ok || e == api.OK {
+				went++
+			}
+		}
+		if went < 40 {
+			t.Errorf("%s: only %d of these go", c.name, went)
+		}
+	}
+}
+
+// What a call takes is mixed with anything of that type.
+func TestWildArguments(t *testing.T) {
+	for _, c := range calls() {
+		s, f := sample.New(12), reflect.TypeOf(c.f)
+		for range 400 {
+			var args []reflect.Value
+			tame := c.tame(s)
+			for i := range f.NumIn() {
+				x := reflect.ValueOf(tame[i])
+				if s.Below(3) > 0 {
+					x = wild(s, f.In(i), 4)
+				}
+				args = append(args, x)
+			}
+			hold(t, c.name, c.f, c.at, args)
+		}
+	}
+}
