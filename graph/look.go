@@ -17,12 +17,7 @@ func Prop(g api.Graph, id int, name string) (api.Value, api.Errno) {
 	if !found {
 		return api.Value{}, api.ErrWho
 	}
-	for _, p := range props {
-		if p.Name == name {
-			return fresh.Value(p.Value), api.OK
-		}
-	}
-	return api.Value{}, api.OK
+	return fresh.Value(seek.Prop(props, name)), api.OK
 }
 
 func propsOf(g api.Graph, id int) ([]api.Prop, bool) {

@@ -3,12 +3,14 @@ package promises
 
 import (
 	"reflect"
+	"slices"
 	"testing"
 
 	"espalier/api"
 	"espalier/code"
 	"espalier/graph"
 	"espalier/sample"
+	"espalier/term"
 	"espalier/txn"
 	"espalier/value"
 )
@@ -22,7 +24,7 @@ type call struct {
 }
 
 func calls() []call {
-	return append(lowCalls(), graphCalls()...)
+	return slices.Concat(lowCalls(), graphCalls(), termCalls())
 }
 
 func lowCalls() []call {
@@ -91,6 +93,25 @@ func graphCalls() []call {
 			g, h := changed(s)
 			d, _ := txn.Between(g, h)
 			return []any{d}
+		}},
+	}
+}
+
+func termCalls() []call {
+	nodes, edges := []string{"a", "b"}, []string{"e"}
+	text := func(s *sample.Source) []any { return []any{wildText(s)} }
+	return []call{
+		{"term.Reserved", term.Reserved, false, text},
+		{"term.Name", term.Name, false, text},
+		{"term.Free", term.Free, false, func(s *sample.Source) []any { return []any{s.Term(nodes, edges, 5)} }},
+		{"term.Eval", term.Eval, false, func(s *sample.Source) []any {
+			g := s.Graph(20)
+			for len(g.Edges) == 0 {
+				g = s.Graph(20)
+			}
+			a, b := g.Nodes[s.Below(len(g.Nodes))], g.Nodes[s.Below(len(g.Nodes))]
+			ids := []int{a.ID, b.ID, g.Edges[s.Below(len(g.Edges))].ID}
+			return []any{g, slices.Concat(nodes, edges), ids, s.Term(nodes, edges, 5)}
 		}},
 	}
 }

@@ -2,6 +2,8 @@ package sample
 
 import (
 	"reflect"
+	"slices"
+	"strings"
 	"testing"
 
 	"espalier/api"
@@ -76,5 +78,34 @@ func TestPlainOnesAreRight(t *testing.T) {
 	}
 	if value.Check(LongText()) != api.ErrMany || value.Check(WrongText()) != api.ErrForm {
 		t.Error("texts")
+	}
+}
+
+func TestTermsOfAllKinds(t *testing.T) {
+	s := New(3)
+	nodes, edges := []string{"a", "b"}, []string{"e"}
+	names := map[string]int{}
+	var walk func(x api.Term, deep int)
+	walk = func(x api.Term, deep int) {
+		kind := []string{"", "const", "name", "field", ""}[x.Kind]
+		if deep > 4 || kind == "name" && !slices.Contains([]string{"a", "b", "e"}, x.Name) {
+			t.Errorf("%v, %d deep", x, deep)
+		}
+		if kind == "" {
+			kind = x.Name
+		}
+		names[kind]++
+		for _, y := range x.A {
+			walk(y, deep+1)
+		}
+	}
+	for range 5000 {
+		walk(s.Term(nodes, edges, 4), 1)
+		walk(s.Term(nil, nil, 3), 2)
+	}
+	for _, c := range strings.Fields("const name field + - * = < <= and or not in null size head coalesce list id type") {
+		if names[c] < 100 {
+			t.Errorf("%s: %d", c, names[c])
+		}
 	}
 }

@@ -1,4 +1,4 @@
-// Package seek finds nodes and edges by their numbers in lists that rise, as those of a graph do.
+// Package seek finds nodes and edges by their numbers in lists that rise, as those of a graph do, and properties by their names.
 package seek
 
 import (
@@ -22,4 +22,14 @@ func Edge(l []api.Edge, id int) (int, bool) { return find(l, id, EdgeID) }
 
 func find[T any](l []T, id int, number func(T) int) (int, bool) {
 	return slices.BinarySearchFunc(l, id, func(x T, id int) int { return cmp.Compare(number(x), id) })
+}
+
+// Prop is the value of the property of that name; Null, if there is none.
+func Prop(l []api.Prop, name string) api.Value {
+	for _, p := range l {
+		if p.Name == name {
+			return p.Value
+		}
+	}
+	return api.Value{}
 }

@@ -38,3 +38,20 @@ func TestFindsNothingInNothing(t *testing.T) {
 		t.Error("an edge")
 	}
 }
+
+func TestPropByName(t *testing.T) {
+	l := []api.Prop{{Name: "a", Value: api.Value{Kind: api.Int, N: 1}}, {Name: "b", Value: api.Value{Kind: api.Bool}}, {Name: "c", Value: api.Value{Kind: api.Int, N: 3}}}
+	for _, p := range l {
+		if v := Prop(l, p.Name); v.Kind != p.Value.Kind || v.N != p.Value.N {
+			t.Errorf("%s: %v", p.Name, v)
+		}
+	}
+	for _, name := range []string{"", "A", "ab", "d"} {
+		if v := Prop(l, name); v.Kind != api.Null {
+			t.Errorf("%q: %v", name, v)
+		}
+	}
+	if v := Prop(nil, "a"); v.Kind != api.Null {
+		t.Errorf("of nothing: %v", v)
+	}
+}

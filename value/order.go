@@ -48,7 +48,7 @@ func Same(a, b api.Value) api.Value {
 		top := open[len(open)-1]
 		open = open[:len(open)-1]
 		if len(top.a) != len(top.b) {
-			return truth(false)
+			return Truth(false)
 		}
 		for i, x := range top.a {
 			y := top.b[i]
@@ -59,14 +59,14 @@ func Same(a, b api.Value) api.Value {
 			case x.Kind == api.List && y.Kind == api.List:
 				open = append(open, pair{x.L, y.L})
 			case Order(x, y) != 0:
-				return truth(false)
+				return Truth(false)
 			}
 		}
 	}
 	if !known {
 		return api.Value{}
 	}
-	return truth(true)
+	return Truth(true)
 }
 
 // Less tells of two Ints, or of two Texts, whether a is ahead of b; of others Null.
@@ -74,5 +74,5 @@ func Less(a, b api.Value) api.Value {
 	if a.Kind != b.Kind || a.Kind != api.Int && a.Kind != api.Text {
 		return api.Value{}
 	}
-	return truth(Order(a, b) < 0)
+	return Truth(Order(a, b) < 0)
 }

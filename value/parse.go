@@ -71,9 +71,9 @@ func (r *reader) value(lists int) api.Value {
 	case r.take("null"):
 		return api.Value{}
 	case r.take("true"):
-		return truth(true)
+		return Truth(true)
 	case r.take("false"):
-		return truth(false)
+		return Truth(false)
 	case r.take("'"):
 		return r.quoted()
 	case r.take("["):

@@ -62,8 +62,8 @@ func checkPlain(v api.Value) api.Errno {
 	return api.OK
 }
 
-// truth is the Bool of what holds or doesn't.
-func truth(holds bool) api.Value {
+// Truth is the Bool of what holds or doesn't.
+func Truth(holds bool) api.Value {
 	if holds {
 		return api.Value{Kind: api.Bool, N: 1}
 	}
