@@ -9,6 +9,7 @@ import (
 	"espalier/api"
 	"espalier/code"
 	"espalier/graph"
+	"espalier/query"
 	"espalier/sample"
 	"espalier/term"
 	"espalier/txn"
@@ -24,7 +25,7 @@ type call struct {
 }
 
 func calls() []call {
-	return slices.Concat(lowCalls(), graphCalls(), termCalls())
+	return slices.Concat(lowCalls(), graphCalls(), termCalls(), queryCalls())
 }
 
 func lowCalls() []call {
@@ -112,6 +113,19 @@ func termCalls() []call {
 			a, b := g.Nodes[s.Below(len(g.Nodes))], g.Nodes[s.Below(len(g.Nodes))]
 			ids := []int{a.ID, b.ID, g.Edges[s.Below(len(g.Edges))].ID}
 			return []any{g, slices.Concat(nodes, edges), ids, s.Term(nodes, edges, 5)}
+		}},
+	}
+}
+
+func queryCalls() []call {
+	one := func(s *sample.Source) []any { return []any{s.Query(api.MaxDeep)} }
+	return []call{
+		{"query.Check", query.Check, false, one},
+		{"query.Names", query.Names, false, one},
+		{"query.Print", query.Print, false, one},
+		{"query.Parse", query.Parse, true, func(s *sample.Source) []any {
+			text, _ := query.Print(s.Query(4))
+			return []any{text}
 		}},
 	}
 }
