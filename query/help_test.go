@@ -10,7 +10,7 @@ import (
 
 // Short names of what these tests say again and again.
 var (
-	num, str, list     = sample.Int, sample.Text, sample.List
+	num, str           = sample.Int, sample.Text
 	constant, variable = sample.Const, sample.Var
 	field, apply       = sample.Field, sample.Call
 )
