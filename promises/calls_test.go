@@ -10,6 +10,7 @@ import (
 	"espalier/code"
 	"espalier/graph"
 	"espalier/query"
+	"espalier/reach"
 	"espalier/sample"
 	"espalier/term"
 	"espalier/txn"
@@ -25,7 +26,7 @@ type call struct {
 }
 
 func calls() []call {
-	return slices.Concat(lowCalls(), graphCalls(), termCalls(), queryCalls())
+	return slices.Concat(lowCalls(), graphCalls(), termCalls(), queryCalls(), reachCalls())
 }
 
 func lowCalls() []call {
@@ -126,6 +127,23 @@ func queryCalls() []call {
 		{"query.Parse", query.Parse, true, func(s *sample.Source) []any {
 			text, _ := query.Print(s.Query(4))
 			return []any{text}
+		}},
+	}
+}
+
+func reachCalls() []call {
+	return []call{
+		{"reach.All", reach.All, false, func(s *sample.Source) []any { return []any{s.Graph(30), ""} }},
+		{"reach.Path", reach.Path, false, func(s *sample.Source) []any {
+			g := s.Graph(30)
+			for len(g.Edges) == 0 {
+				g = s.Graph(30)
+			}
+			return []any{g, "", g.Edges[s.Below(len(g.Edges))].From, g.Edges[s.Below(len(g.Edges))].To}
+		}},
+		{"reach.Change", reach.Change, false, func(s *sample.Source) []any {
+			g, h := changed(s)
+			return []any{g, h, "T" + "012"[s.Below(3):][:1]}
 		}},
 	}
 }
