@@ -9,6 +9,7 @@ import (
 	"espalier/api"
 	"espalier/code"
 	"espalier/graph"
+	"espalier/match"
 	"espalier/query"
 	"espalier/reach"
 	"espalier/sample"
@@ -26,7 +27,7 @@ type call struct {
 }
 
 func calls() []call {
-	return slices.Concat(lowCalls(), graphCalls(), termCalls(), queryCalls(), reachCalls())
+	return slices.Concat(lowCalls(), graphCalls(), termCalls(), queryCalls(), reachCalls(), matchCalls())
 }
 
 func lowCalls() []call {
@@ -145,6 +146,12 @@ func reachCalls() []call {
 			g, h := changed(s)
 			return []any{g, h, "T" + "012"[s.Below(3):][:1]}
 		}},
+	}
+}
+
+func matchCalls() []call {
+	return []call{
+		{"match.All", match.All, false, func(s *sample.Source) []any { return []any{s.Query(api.MaxDeep), s.Graph(20)} }},
 	}
 }
 
