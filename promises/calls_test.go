@@ -7,6 +7,7 @@ import (
 	"testing"
 
 	"espalier/api"
+	"espalier/bag"
 	"espalier/code"
 	"espalier/graph"
 	"espalier/match"
@@ -27,7 +28,7 @@ type call struct {
 }
 
 func calls() []call {
-	return slices.Concat(lowCalls(), graphCalls(), termCalls(), queryCalls(), reachCalls(), matchCalls())
+	return slices.Concat(lowCalls(), graphCalls(), termCalls(), queryCalls(), reachCalls(), matchCalls(), bagCalls())
 }
 
 func lowCalls() []call {
@@ -152,6 +153,18 @@ func reachCalls() []call {
 func matchCalls() []call {
 	return []call{
 		{"match.All", match.All, false, func(s *sample.Source) []any { return []any{s.Query(api.MaxDeep), s.Graph(20)} }},
+	}
+}
+
+func bagCalls() []call {
+	return []call{
+		{"bag.Compare", bag.Compare, false, func(s *sample.Source) []any { return []any{s.Row(0, 3), s.Row(0, 3)} }},
+		{"bag.Check", bag.Check, false, func(s *sample.Source) []any { return []any{s.Bag(9, 0, 3)} }},
+		{"bag.Of", bag.Of, false, func(s *sample.Source) []any { return []any{s.Rows(9, 0, 1)} }},
+		{"bag.Add", bag.Add, false, func(s *sample.Source) []any { return []any{s.Bag(9, 0, 1), s.Bag(9, 0, 1), s.Below(7) - 3} }},
+		{"bag.Pick", bag.Pick, false, func(s *sample.Source) []any { return []any{s.Bag(9, 2, 3), []int{1, s.Below(2), 1}} }},
+		{"bag.Join", bag.Join, false, func(s *sample.Source) []any { return []any{s.Bag(9, 1, 2), s.Bag(9, 1, 2), s.Below(2)} }},
+		{"bag.Distinct", bag.Distinct, false, func(s *sample.Source) []any { return []any{s.Bag(9, 0, 3)} }},
 	}
 }
 
