@@ -7,6 +7,7 @@ import (
 	"testing"
 
 	"espalier/api"
+	"espalier/ask"
 	"espalier/bag"
 	"espalier/code"
 	"espalier/graph"
@@ -28,7 +29,7 @@ type call struct {
 }
 
 func calls() []call {
-	return slices.Concat(lowCalls(), graphCalls(), termCalls(), queryCalls(), reachCalls(), matchCalls(), bagCalls())
+	return slices.Concat(lowCalls(), graphCalls(), termCalls(), queryCalls(), reachCalls(), matchCalls(), bagCalls(), askCalls())
 }
 
 func lowCalls() []call {
@@ -165,6 +166,20 @@ func bagCalls() []call {
 		{"bag.Pick", bag.Pick, false, func(s *sample.Source) []any { return []any{s.Bag(9, 2, 3), []int{1, s.Below(2), 1}} }},
 		{"bag.Join", bag.Join, false, func(s *sample.Source) []any { return []any{s.Bag(9, 1, 2), s.Bag(9, 1, 2), s.Below(2)} }},
 		{"bag.Distinct", bag.Distinct, false, func(s *sample.Source) []any { return []any{s.Bag(9, 0, 3)} }},
+	}
+}
+
+func askCalls() []call {
+	return []call{
+		{"ask.Ask", ask.Ask, false, func(s *sample.Source) []any { return []any{s.Query(api.MaxDeep), s.Graph(20)} }},
+		{"ask.Text", ask.Text, true, func(s *sample.Source) []any {
+			text, _ := query.Print(s.Query(4))
+			return []any{text, s.Graph(20)}
+		}},
+		{"ask.Sort", ask.Sort, false, func(s *sample.Source) []any {
+			b, _ := bag.Of(s.Rows(20, 2, 3))
+			return []any{b, []int{2, -1 - s.Below(2)}, s.Below(3), s.Below(20)}
+		}},
 	}
 }
 
