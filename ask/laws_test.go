@@ -120,19 +120,9 @@ func oneOf(items []api.Item, part []api.Row) api.Row {
 	return out
 }
 
-// loose is a question that stands in more ways than others do: of its dots some have a label, of its arrows some a type.
+// loose is a question that stands in more ways than others do.
 func loose(s *sample.Source) api.Query {
-	q := s.Query(3)
-	for i := range q.Dots {
-		if s.Below(4) > 0 {
-			q.Dots[i].Label = ""
-		}
-	}
-	for i := range q.Arrows {
-		if s.Below(2) > 0 {
-			q.Arrows[i].Type = ""
-		}
-	}
+	q := s.Loose()
 	if s.Below(2) > 0 {
 		q.Where = nil
 	}

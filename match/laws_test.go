@@ -5,7 +5,6 @@ import (
 	"testing"
 
 	"espalier/api"
-	"espalier/query"
 	"espalier/sample"
 )
 
@@ -24,67 +23,14 @@ func tried(t *testing.T, q api.Query, g api.Graph) int {
 	return len(want)
 }
 
-// where is a term that asks for what is bound in q, mostly by several names, and is true now and then. One more around it isn't too deep.
-func where(s *sample.Source, q api.Query) api.Term {
-	names, arrows, _ := query.Names(q)
-	if len(names) == 0 {
-		return sample.Const(api.Value{Kind: api.Bool, N: s.Below(4) % 2})
-	}
-	plain := func() api.Term {
-		i := s.Below(len(names))
-		switch k := s.Below(8); {
-		case k < 2:
-			return sample.Field(names[i], "p"+"0123"[s.Below(4):][:1])
-		case k == 3 && arrows[i]:
-			return sample.Call("type", sample.Var(names[i]))
-		case k == 4:
-			return sample.Const(sample.Int(s.Below(9)))
-		case k == 5:
-			return sample.Call("+", sample.Var(names[i]), sample.Var(names[s.Below(len(names))]))
-		}
-		return sample.Var(names[i])
-	}
-	piece := func() api.Term {
-		sign := []string{"<", "<=", "=", "<", "<=", "null"}[s.Below(6)]
-		if sign == "null" {
-			return sample.Call(sign, plain())
-		}
-		return sample.Call(sign, plain(), plain())
-	}
-	if s.Below(5) == 0 {
-		return sample.Call("and", piece(), sample.Call("not", piece()))
-	}
-	out := piece()
-	for range s.Below(3) {
-		out = sample.Call([]string{"and", "and", "or"}[s.Below(3)], out, piece())
-	}
-	return out
-}
-
-// loose is a question of which most dots have any label and most arrows any type, so that it stands in more ways.
-func loose(s *sample.Source) api.Query {
-	q := s.Query(3)
-	for i := range q.Dots {
-		if s.Below(4) > 0 {
-			q.Dots[i].Label = ""
-		}
-	}
-	for i := range q.Arrows {
-		if s.Below(2) > 0 {
-			q.Arrows[i].Type = ""
-		}
-	}
-	return q
-}
-
 // Small graphs, and patterns of all kinds.
 func TestAllIsWhatTryingFinds(t *testing.T) {
 	s := sample.New(81)
 	met := map[string]int{}
 	for i := range 6000 {
-		g, q := s.Graph(5+i%25), loose(s)
+		g, q := s.Graph(5+i%25), s.Loose()
 		if i%3 > 0 {
-			q.Where = []api.Term{where(s, q)}
+			q.Where = []api.Term{s.Where(q)}
 		}
 		n := tried(t, q, g)
 		some := n > 0 && n <= api.MaxRows
@@ -130,16 +76,16 @@ func TestAllIsWhatTryingFindsInGreaterGraphs(t *testing.T) {
 	s := sample.New(82)
 	less, full := 0, 0
 	for i := range 500 {
-		g, q := s.Graph(150), loose(s)
+		g, q := s.Graph(150), s.Loose()
 		for len(q.Arrows) > 2 || len(q.Arrows) == 0 {
-			q = loose(s)
+			q = s.Loose()
 		}
 		if i%5 == 0 {
 			q = asked(t, "(a)-[*]->(b:L0)<-[*]-(c)")
 		}
 		bare := q
 		bare.Where = nil
-		q.Where = []api.Term{where(s, q)}
+		q.Where = []api.Term{s.Where(q)}
 		all, some := tried(t, bare, g), tried(t, q, g)
 		if some > 0 && some < all {
 			less++
@@ -158,8 +104,8 @@ func TestReadFromTheRight(t *testing.T) {
 	s := sample.New(83)
 	ways := 0
 	for i := range 2000 {
-		g, q := s.Graph(20+i%20), loose(s)
-		q.Where = []api.Term{where(s, q)}
+		g, q := s.Graph(20+i%20), s.Loose()
+		q.Where = []api.Term{s.Where(q)}
 		back := q
 		back.Dots, back.Arrows = slices.Clone(q.Dots), slices.Clone(q.Arrows)
 		slices.Reverse(back.Dots)
@@ -189,8 +135,8 @@ func TestAndIsBoth(t *testing.T) {
 	s := sample.New(84)
 	ways := 0
 	for i := range 2000 {
-		g, q := s.Graph(20+i%20), loose(s)
-		x, y := where(s, q), where(s, q)
+		g, q := s.Graph(20+i%20), s.Loose()
+		x, y := s.Where(q), s.Where(q)
 		of := func(w api.Term) ([][]int, api.Errno) {
 			q.Where = []api.Term{w}
 			return All(q, g)

@@ -60,38 +60,50 @@ type edges map[[2]int][]api.Edge
 
 func (s *search) edgesOf(x api.Arrow) edges {
 	out := edges{}
-	lay := func(from, to int, edge api.Edge) {
-		left, _ := seek.Node(s.g.Nodes, from)
-		right, _ := seek.Node(s.g.Nodes, to)
-		if x.Back {
-			left, right = right, left
+	own := s.asking(x.Name)
+	Along(x, s.g, func(left, right int, edge api.Edge) {
+		if s.holds(own, term.Names{x.Name: term.OfEdge(edge)}) {
+			from, _ := seek.Node(s.g.Nodes, left)
+			to, _ := seek.Node(s.g.Nodes, right)
+			ends := [2]int{from, to}
+			out[ends] = append(out[ends], edge)
 		}
-		ends := [2]int{left, right}
-		out[ends] = append(out[ends], edge)
+	})
+	return out
+}
+
+// Along visits what an arrow may have in a graph that is right: the node of its left dot, that of its right one, and the edge.
+func Along(x api.Arrow, g api.Graph, visit func(left, right int, edge api.Edge)) {
+	tell := func(from, to int, edge api.Edge) {
+		if x.Back {
+			from, to = to, from
+		}
+		visit(from, to, edge)
 	}
 	if x.Many {
 		// A node is reached once, by no edge that is told: one without a number stands for it.
-		pairs, _ := reach.All(s.g, x.Type)
+		pairs, _ := reach.All(g, x.Type)
 		for _, p := range pairs {
-			lay(p[0], p[1], api.Edge{})
+			tell(p[0], p[1], api.Edge{})
 		}
-		return out
+		return
 	}
-	own := s.asking(x.Name)
-	for _, edge := range s.g.Edges {
-		if (x.Type == "" || x.Type == edge.Type) && s.holds(own, term.Names{x.Name: term.OfEdge(edge)}) {
-			lay(edge.From, edge.To, edge)
+	for _, edge := range g.Edges {
+		if x.Type == "" || x.Type == edge.Type {
+			tell(edge.From, edge.To, edge)
 		}
 	}
-	return out
 }
+
+// Takes tells whether a dot may have a node, by its label.
+func Takes(d api.Dot, n api.Node) bool { return d.Label == "" || slices.Contains(n.Labels, d.Label) }
 
 // toItself links a dot to itself: each node that it may have, whatever the others have.
 func (s *search) toItself(d api.Dot) link {
 	var out link
 	own := s.asking(d.Name)
 	for i, n := range s.g.Nodes {
-		if (d.Label == "" || slices.Contains(n.Labels, d.Label)) && s.holds(own, term.Names{d.Name: term.OfNode(n)}) {
+		if Takes(d, n) && s.holds(own, term.Names{d.Name: term.OfNode(n)}) {
 			out[i] = 1 << i
 		}
 	}

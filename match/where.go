@@ -17,10 +17,8 @@ type part struct {
 func partsOf(l []api.Term) []part {
 	var out []part
 	for _, t := range l {
-		if t.Kind == api.Call && t.Name == "and" {
-			out = append(out, partsOf(t.A)...)
-		} else {
-			out = append(out, part{t, term.Free(t)})
+		for _, x := range term.Parts(t) {
+			out = append(out, part{x, term.Free(x)})
 		}
 	}
 	return out

@@ -12,6 +12,7 @@ import (
 	"espalier/code"
 	"espalier/graph"
 	"espalier/match"
+	"espalier/plan"
 	"espalier/query"
 	"espalier/reach"
 	"espalier/sample"
@@ -29,7 +30,7 @@ type call struct {
 }
 
 func calls() []call {
-	return slices.Concat(lowCalls(), graphCalls(), termCalls(), queryCalls(), reachCalls(), matchCalls(), bagCalls(), askCalls())
+	return slices.Concat(lowCalls(), graphCalls(), termCalls(), queryCalls(), reachCalls(), matchCalls(), bagCalls(), askCalls(), planCalls())
 }
 
 func lowCalls() []call {
@@ -179,6 +180,20 @@ func askCalls() []call {
 		{"ask.Sort", ask.Sort, false, func(s *sample.Source) []any {
 			b, _ := bag.Of(s.Rows(20, 2, 3))
 			return []any{b, []int{2, -1 - s.Below(2)}, s.Below(3), s.Below(20)}
+		}},
+	}
+}
+
+func planCalls() []call {
+	return []call{
+		{"plan.Check", plan.Check, false, func(s *sample.Source) []any {
+			q := s.Loose()
+			return []any{q, s.Plan(q)}
+		}},
+		{"plan.Of", plan.Of, false, func(s *sample.Source) []any { return []any{s.Query(api.MaxDeep), s.Below(2) == 0} }},
+		{"plan.Run", plan.Run, false, func(s *sample.Source) []any {
+			q := s.Loose()
+			return []any{q, s.Plan(q), s.Graph(20)}
 		}},
 	}
 }

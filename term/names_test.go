@@ -1,6 +1,7 @@
 package term
 
 import (
+	"reflect"
 	"slices"
 	"strings"
 	"testing"
@@ -83,4 +84,31 @@ func TestFreeOfMuch(t *testing.T) {
 	wrong(t, "deep", deep, api.ErrForm)
 	wrong(t, "wide", wide, api.ErrMany)
 	wrong(t, "deep calls", nest(deep, 3), api.ErrForm)
+}
+
+func TestParts(t *testing.T) {
+	a, b, c := variable("a"), field("b", "x"), constant(yes)
+	or := apply("or", a, apply("and", a, b))
+	for _, x := range []struct {
+		what string
+		t    api.Term
+		want []api.Term
+	}{
+		{"a name", a, []api.Term{a}},
+		{"a constant", c, []api.Term{c}},
+		{"and", apply("and", b, a), []api.Term{b, a}},
+		{"and of the same", apply("and", a, a), []api.Term{a, a}},
+		{"and on the left", apply("and", apply("and", a, b), c), []api.Term{a, b, c}},
+		{"and on the right", apply("and", c, apply("and", b, a)), []api.Term{c, b, a}},
+		{"and on both sides", apply("and", apply("and", a, b), apply("and", b, c)), []api.Term{a, b, b, c}},
+		{"or", or, []api.Term{or}},
+		{"and of or", apply("and", or, c), []api.Term{or, c}},
+		{"not", apply("not", apply("and", a, b)), []api.Term{apply("not", apply("and", a, b))}},
+		{"a name that is no call", variable("and"), []api.Term{variable("and")}},
+		{"a field that is no call", field("a", "and"), []api.Term{field("a", "and")}},
+	} {
+		if got := Parts(x.t); !reflect.DeepEqual(got, x.want) {
+			t.Errorf("%s: %v, want %v", x.what, got, x.want)
+		}
+	}
 }
