@@ -11,6 +11,7 @@ import (
 	"espalier/bag"
 	"espalier/code"
 	"espalier/graph"
+	"espalier/live"
 	"espalier/match"
 	"espalier/plan"
 	"espalier/query"
@@ -30,7 +31,7 @@ type call struct {
 }
 
 func calls() []call {
-	return slices.Concat(lowCalls(), graphCalls(), termCalls(), queryCalls(), reachCalls(), matchCalls(), bagCalls(), askCalls(), planCalls())
+	return slices.Concat(lowCalls(), graphCalls(), termCalls(), queryCalls(), reachCalls(), matchCalls(), bagCalls(), askCalls(), planCalls(), liveCalls())
 }
 
 func lowCalls() []call {
@@ -195,6 +196,28 @@ func planCalls() []call {
 			q := s.Loose()
 			return []any{q, s.Plan(q), s.Graph(20)}
 		}},
+	}
+}
+
+func liveCalls() []call {
+	view := func(s *sample.Source) (api.Hold, api.Graph, api.Graph) {
+		g, b := changed(s)
+		h, _ := live.Start(s.Loose(), g)
+		return h, g, b
+	}
+	one := func(s *sample.Source) []any {
+		h, g, _ := view(s)
+		return []any{h, g}
+	}
+	return []call{
+		{"live.Start", live.Start, false, func(s *sample.Source) []any { return []any{s.Query(api.MaxDeep), s.Graph(20)} }},
+		{"live.Check", live.Check, false, one},
+		{"live.Rows", live.Rows, false, one},
+		{"live.Step", live.Step, false, func(s *sample.Source) []any {
+			h, g, b := view(s)
+			return []any{h, g, b}
+		}},
+		{"live.Names", live.Names, false, func(s *sample.Source) []any { return []any{s.Query(api.MaxDeep)} }},
 	}
 }
 
