@@ -11,6 +11,7 @@ import (
 	"espalier/bag"
 	"espalier/code"
 	"espalier/graph"
+	"espalier/index"
 	"espalier/live"
 	"espalier/match"
 	"espalier/plan"
@@ -31,7 +32,7 @@ type call struct {
 }
 
 func calls() []call {
-	return slices.Concat(lowCalls(), graphCalls(), termCalls(), queryCalls(), reachCalls(), matchCalls(), bagCalls(), askCalls(), planCalls(), liveCalls())
+	return slices.Concat(lowCalls(), graphCalls(), termCalls(), queryCalls(), reachCalls(), matchCalls(), bagCalls(), askCalls(), planCalls(), liveCalls(), indexCalls())
 }
 
 func lowCalls() []call {
@@ -218,6 +219,26 @@ func liveCalls() []call {
 			return []any{h, g, b}
 		}},
 		{"live.Names", live.Names, false, func(s *sample.Source) []any { return []any{s.Query(api.MaxDeep)} }},
+	}
+}
+
+func indexCalls() []call {
+	return []call{
+		{"index.Of", index.Of, false, func(s *sample.Source) []any { return []any{s.Graph(40)} }},
+		{"index.Step", index.Step, false, func(s *sample.Source) []any {
+			g, h := changed(s)
+			l, _ := index.Of(g)
+			return []any{l, g, h}
+		}},
+		{"index.Find", index.Find, false, func(s *sample.Source) []any {
+			l, _ := index.Of(s.Graph(40))
+			if len(l) == 0 {
+				return []any{l, "L0", "p0", s.Value(2)}
+			}
+			x := l[s.Below(len(l))]
+			return []any{l, x.Label, x.Prop, x.V}
+		}},
+		{"index.Count", index.Count, false, func(s *sample.Source) []any { return []any{s.Graph(40)} }},
 	}
 }
 
