@@ -14,6 +14,7 @@ import (
 	"espalier/index"
 	"espalier/live"
 	"espalier/match"
+	"espalier/pack"
 	"espalier/plan"
 	"espalier/query"
 	"espalier/reach"
@@ -32,7 +33,7 @@ type call struct {
 }
 
 func calls() []call {
-	return slices.Concat(lowCalls(), graphCalls(), termCalls(), queryCalls(), reachCalls(), matchCalls(), bagCalls(), askCalls(), planCalls(), liveCalls(), indexCalls())
+	return slices.Concat(lowCalls(), graphCalls(), termCalls(), queryCalls(), reachCalls(), matchCalls(), bagCalls(), askCalls(), planCalls(), liveCalls(), indexCalls(), packCalls())
 }
 
 func lowCalls() []call {
@@ -239,6 +240,22 @@ func indexCalls() []call {
 			return []any{l, x.Label, x.Prop, x.V}
 		}},
 		{"index.Count", index.Count, false, func(s *sample.Source) []any { return []any{s.Graph(40)} }},
+	}
+}
+
+func packCalls() []call {
+	ops := func(s *sample.Source) []api.Op { return s.Ops(s.Graph(20), 8) }
+	return []call{
+		{"pack.Graph", pack.Graph, false, func(s *sample.Source) []any { return []any{s.Graph(40)} }},
+		{"pack.OfGraph", pack.OfGraph, false, func(s *sample.Source) []any {
+			b, _ := pack.Graph(s.Graph(40))
+			return []any{b}
+		}},
+		{"pack.Ops", pack.Ops, false, func(s *sample.Source) []any { return []any{ops(s)} }},
+		{"pack.OfOps", pack.OfOps, false, func(s *sample.Source) []any {
+			b, _ := pack.Ops(ops(s))
+			return []any{b}
+		}},
 	}
 }
 
