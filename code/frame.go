@@ -2,8 +2,8 @@ package code
 
 import "espalier/api"
 
-// headSize is how many bytes a frame has ahead of what it holds: how many these are, and their sum.
-const headSize = 8
+// HeadSize is how many bytes a frame has ahead of what it holds: how many these are, and their sum.
+const HeadSize = 8
 
 // Frame puts bytes into a frame, by which Frames tells whether they are whole.
 func Frame(b string) (string, api.Errno) {
@@ -13,7 +13,7 @@ func Frame(b string) (string, api.Errno) {
 	if len(b) > api.MaxDisk {
 		return "", api.ErrMany
 	}
-	out := make([]byte, 0, headSize+len(b))
+	out := make([]byte, 0, HeadSize+len(b))
 	out = appendNumber(out, uint64(len(b)), 4)
 	out = appendNumber(out, uint64(sum([]byte(b))), 4)
 	return string(append(out, b...)), api.OK
@@ -31,7 +31,7 @@ func Frames(b string) (l []string, used int, e api.Errno) {
 			return l, used, api.OK
 		}
 		l = append(l, string(held))
-		used += headSize + len(held)
+		used += HeadSize + len(held)
 	}
 }
 

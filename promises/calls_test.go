@@ -19,6 +19,7 @@ import (
 	"espalier/query"
 	"espalier/reach"
 	"espalier/sample"
+	"espalier/store"
 	"espalier/term"
 	"espalier/txn"
 	"espalier/value"
@@ -33,7 +34,7 @@ type call struct {
 }
 
 func calls() []call {
-	return slices.Concat(lowCalls(), graphCalls(), termCalls(), queryCalls(), reachCalls(), matchCalls(), bagCalls(), askCalls(), planCalls(), liveCalls(), indexCalls(), packCalls())
+	return slices.Concat(lowCalls(), graphCalls(), termCalls(), queryCalls(), reachCalls(), matchCalls(), bagCalls(), askCalls(), planCalls(), liveCalls(), indexCalls(), packCalls(), storeCalls())
 }
 
 func lowCalls() []call {
@@ -257,6 +258,54 @@ func packCalls() []call {
 			return []any{b}
 		}},
 	}
+}
+
+func storeCalls() []call {
+	one := func(s *sample.Source) []any { return []any{stored(s)} }
+	return []call{
+		{"store.New", store.New, false, func(s *sample.Source) []any { return nil }},
+		{"store.Recover", store.Recover, false, func(s *sample.Source) []any {
+			x := stored(s)
+			return []any{x.Base, x.Log.Safe + x.Log.Wait[:s.Below(len(x.Log.Wait)+1)]}
+		}},
+		{"store.Check", store.Check, false, one},
+		{"store.Commit", store.Commit, true, func(s *sample.Source) []any {
+			x := stored(s)
+			return []any{x, s.Ops(x.G, 4)}
+		}},
+		{"store.Watch", store.Watch, false, func(s *sample.Source) []any {
+			text, _ := query.Print(s.Query(4))
+			return []any{stored(s), text}
+		}},
+		{"store.Sync", store.Sync, false, one},
+		{"store.Lay", store.Lay, false, one},
+		{"store.Crash", store.Crash, false, func(s *sample.Source) []any {
+			x := stored(s)
+			return []any{x, s.Below(len(x.Log.Wait) + 1)}
+		}},
+	}
+}
+
+// stored is a store to which some things were done.
+func stored(s *sample.Source) api.Store {
+	x := store.New()
+	for range s.Below(12) {
+		next, e := x, api.OK
+		switch s.Below(6) {
+		case 0:
+			next, e = store.Watch(x, "match (a) return a as n")
+		case 1:
+			next, e = store.Sync(x)
+		case 2:
+			next, e = store.Lay(x)
+		default:
+			next, _, _, e = store.Commit(x, s.Ops(x.G, 4))
+		}
+		if e == api.OK {
+			x = next
+		}
+	}
+	return x
 }
 
 // changed is a graph, and another that has much in common with it.

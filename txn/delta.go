@@ -58,6 +58,11 @@ func Back(d api.Delta) api.Delta {
 	})
 }
 
+// Same tells whether two graphs are the same in all. It is for the layers behind: it asks nobody whether they are right, and ends where they differ first.
+func Same(a, b api.Graph) bool {
+	return a.Next == b.Next && slices.EqualFunc(a.Nodes, b.Nodes, sameNode) && slices.EqualFunc(a.Edges, b.Edges, sameEdge)
+}
+
 // lacking are those of a of which b has none the same.
 func lacking[T any](a, b []T, same func(x, y T) bool) []T {
 	var l []T

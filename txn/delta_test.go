@@ -57,6 +57,34 @@ func TestBetweenOfEmptyLists(t *testing.T) {
 	}
 }
 
+// Each graph with one thing of changed is another one.
+func TestSame(t *testing.T) {
+	if !Same(town(), town()) || !Same(api.Graph{}, api.Graph{Nodes: []api.Node{}, Edges: []api.Edge{}}) || Same(town(), api.Graph{Next: 13}) {
+		t.Error("a town")
+	}
+	other := changed()
+	var l []api.Graph
+	for i := range other.Nodes {
+		g := town()
+		g.Nodes[i] = other.Nodes[i]
+		l = append(l, g)
+	}
+	for i := range other.Edges {
+		g := town()
+		g.Edges[i] = other.Edges[i]
+		l = append(l, g)
+	}
+	later, fewer, few := town(), town(), town()
+	later.Next++
+	fewer.Nodes = fewer.Nodes[:3]
+	few.Edges = few.Edges[:4]
+	for i, g := range append(l, later, fewer, few) {
+		if Same(town(), g) || Same(g, town()) || !Same(g, g) {
+			t.Errorf("%d: %v", i, g)
+		}
+	}
+}
+
 func TestBetweenRefuses(t *testing.T) {
 	who, reach := town(), town()
 	who.Edges[4].To = 1
