@@ -10,7 +10,7 @@ import (
 	"espalier/txn"
 )
 
-// What a frame holds ends with a mark: so a record is never taken for another, nor for what is laid down. It stands last, as no frame begins like that: the next record never happens to have the bytes that a cut one lacks.
+// What a frame holds ends with a mark: so a record is never taken for another, nor for what is laid down. It stands last, as no frame begins with letters: what stands behind a record that lost its end would have to match a sum to make it whole.
 const (
 	markBase = "lay"
 	markOps  = "ops"
