@@ -149,3 +149,32 @@ func TestPickRefuses(t *testing.T) {
 		refuses(t, c.what, got, e, c.want)
 	}
 }
+
+// What is too often on the way may not be so in the end; what is counted may stand in any order.
+func TestTally(t *testing.T) {
+	for _, c := range []struct{ counted, want string }{
+		{"", ""},
+		{"1*[2] 1*[1] 1*[2]", "1*[1] 2*[2]"},
+		{"1*[1] 0*[2] -1*[1]", ""},
+		{"1099511627776*[1] 1099511627776*[1] -1099511627776*[1]", "1099511627776*[1]"},
+		{"1099511627777*[1] -1*[1] 1*[]", "1*[] 1099511627776*[1]"},
+	} {
+		got, e := Tally(func(count Counter) {
+			for _, x := range read(c.counted) {
+				count(x.R, x.N)
+			}
+		})
+		tells(t, c.counted, got, e, c.want)
+	}
+	for _, want := range []api.Errno{api.ErrMany, api.ErrRange} {
+		wrong := wrongs()[want][0]
+		got, e := Tally(func(count Counter) { count(wrong.R, wrong.N) })
+		refuses(t, "a wrong row", got, e, want)
+	}
+	one := row("[[1]]")
+	got, _ := Tally(func(count Counter) { count(one, 1) })
+	got[0].R[0].L[0] = sample.Int(2)
+	if key(one) != "[[1]]" {
+		t.Error("the answer shares memory with what was counted")
+	}
+}

@@ -20,7 +20,7 @@ func Join(a, b api.Bag, k int) (api.Bag, api.Errno) {
 	if over {
 		return nil, api.ErrRange
 	}
-	return tally(func(count counter) {
+	return Tally(func(count Counter) {
 		meet(a, b, k, func(x, y api.Count) { count(slices.Concat(x.R, y.R[k:]), x.N*y.N) })
 	})
 }

@@ -8,11 +8,11 @@ import (
 	"espalier/fresh"
 )
 
-// counter takes a row, and how often it comes.
-type counter func(r api.Row, n int)
+// Counter takes a row, and how often it comes.
+type Counter func(r api.Row, n int)
 
-// tally is the bag of all rows that visit counts, each as often as it comes in all, or that bag's error. Rows are only read: they may be the caller's.
-func tally(visit func(count counter)) (api.Bag, api.Errno) {
+// Tally is the bag of all rows that visit counts, each as often as it comes in all, or that bag's error: what is too often on the way may not be so in the end. Rows are only read: they may be the caller's. It is for the layers behind, too: no sum of theirs may be too great for an int.
+func Tally(visit func(count Counter)) (api.Bag, api.Errno) {
 	var all api.Bag
 	visit(func(r api.Row, n int) { all = append(all, api.Count{R: r, N: n}) })
 	slices.SortFunc(all, func(x, y api.Count) int { return Compare(x.R, y.R) })
@@ -23,7 +23,7 @@ func tally(visit func(count counter)) (api.Bag, api.Errno) {
 	return fresh.Bag(out), api.OK
 }
 
-// together makes one of those that have the same row, of a list in which these stand one behind the other; those go that come to nothing. No sum is too great for an int: Add counts a row twice, by at most 1000 times mostTimes; the others at most 10 times MaxRows times, each by at most mostTimes.
+// together makes one of those that have the same row, of a list in which these stand one behind the other; those go that come to nothing. No sum of this package is too great for an int: Add counts a row twice, by at most 1000 times mostTimes; the others at most 10 times MaxRows times, each by at most mostTimes.
 func together(l api.Bag) api.Bag {
 	var out api.Bag
 	for _, c := range l {
@@ -47,7 +47,7 @@ func Add(a, b api.Bag, k int) (api.Bag, api.Errno) {
 	if e := cmp.Or(Check(a), Check(b)); e != api.OK {
 		return nil, e
 	}
-	return tally(func(count counter) {
+	return Tally(func(count Counter) {
 		for _, c := range a {
 			count(c.R, c.N)
 		}
@@ -68,7 +68,7 @@ func Pick(a api.Bag, columns []int) (api.Bag, api.Errno) {
 	if e := Check(a); e != api.OK {
 		return nil, e
 	}
-	return tally(func(count counter) {
+	return Tally(func(count Counter) {
 		for _, c := range a {
 			count(picked(c.R, columns), c.N)
 		}

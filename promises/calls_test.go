@@ -11,6 +11,7 @@ import (
 	"espalier/bag"
 	"espalier/code"
 	"espalier/graph"
+	"espalier/guest"
 	"espalier/index"
 	"espalier/live"
 	"espalier/match"
@@ -34,7 +35,7 @@ type call struct {
 }
 
 func calls() []call {
-	return slices.Concat(lowCalls(), graphCalls(), termCalls(), queryCalls(), reachCalls(), matchCalls(), bagCalls(), askCalls(), planCalls(), liveCalls(), indexCalls(), packCalls(), storeCalls())
+	return slices.Concat(lowCalls(), graphCalls(), termCalls(), queryCalls(), reachCalls(), matchCalls(), bagCalls(), askCalls(), planCalls(), liveCalls(), indexCalls(), packCalls(), storeCalls(), guestCalls())
 }
 
 func lowCalls() []call {
@@ -282,6 +283,17 @@ func storeCalls() []call {
 		{"store.Crash", store.Crash, false, func(s *sample.Source) []any {
 			x := stored(s)
 			return []any{x, s.Below(len(x.Log.Wait) + 1)}
+		}},
+	}
+}
+
+func guestCalls() []call {
+	return []call{
+		{"guest.Check", guest.Check, false, func(s *sample.Source) []any { return []any{s.Guest()} }},
+		{"guest.Tell", guest.Tell, false, func(s *sample.Source) []any { return []any{s.Guest(), s.Bag(20, 0, 2)} }},
+		{"guest.Take", guest.Take, false, func(s *sample.Source) []any {
+			u := s.Guest()
+			return []any{u, s.Bag(20, 0, 2), u.At + s.Below(4)}
 		}},
 	}
 }
