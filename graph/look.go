@@ -37,12 +37,15 @@ func Labelled(g api.Graph, label string) ([]int, api.Errno) {
 	}
 	var l []int
 	for _, n := range g.Nodes {
-		if label == "" || slices.Contains(n.Labels, label) {
+		if HasLabel(n, label) {
 			l = append(l, n.ID)
 		}
 	}
 	return l, api.OK
 }
+
+// HasLabel tells whether a node has a label; every node has "". It is for the layers behind, too.
+func HasLabel(n api.Node, label string) bool { return label == "" || slices.Contains(n.Labels, label) }
 
 // Around are the edges of a type (of "": of any) from a node; in: to it.
 func Around(g api.Graph, id int, kind string, in bool) ([]int, api.Errno) {

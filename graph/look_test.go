@@ -3,6 +3,8 @@ package graph
 import (
 	"reflect"
 	"slices"
+	"strconv"
+	"strings"
 	"testing"
 
 	"espalier/api"
@@ -54,6 +56,25 @@ func TestLabelled(t *testing.T) {
 		if got, e := Labelled(api.Graph{Next: 1}, label); len(got) != 0 || e != api.OK {
 			t.Errorf("of nothing: %v, %d", got, e)
 		}
+	}
+}
+
+// Of a node that isn't right, too: a label that no node may have is one like any other, and every node has "".
+func TestHasLabel(t *testing.T) {
+	for label, want := range map[string]string{"": "2 3 7 9", "Person": "3 7", "Dog": "2", "Perso": "", "person": ""} {
+		var got []string
+		for _, n := range town().Nodes {
+			if HasLabel(n, label) {
+				got = append(got, strconv.Itoa(n.ID))
+			}
+		}
+		if strings.Join(got, " ") != want {
+			t.Errorf("%q: %v, want %s", label, got, want)
+		}
+	}
+	wrong := api.Node{Labels: []string{"b", "a", "1", ""}}
+	if !HasLabel(wrong, "a") || !HasLabel(wrong, "1") || !HasLabel(wrong, "") || HasLabel(wrong, "c") {
+		t.Error("a node that isn't right")
 	}
 }
 

@@ -2,9 +2,9 @@ package match
 
 import (
 	"math/bits"
-	"slices"
 
 	"espalier/api"
+	"espalier/graph"
 	"espalier/reach"
 	"espalier/seek"
 	"espalier/term"
@@ -96,7 +96,7 @@ func Along(x api.Arrow, g api.Graph, visit func(left, right int, edge api.Edge))
 }
 
 // Takes tells whether a dot may have a node, by its label.
-func Takes(d api.Dot, n api.Node) bool { return d.Label == "" || slices.Contains(n.Labels, d.Label) }
+func Takes(d api.Dot, n api.Node) bool { return graph.HasLabel(n, d.Label) }
 
 // toItself links a dot to itself: each node that it may have, whatever the others have.
 func (s *search) toItself(d api.Dot) link {

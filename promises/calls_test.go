@@ -10,6 +10,7 @@ import (
 	"espalier/ask"
 	"espalier/bag"
 	"espalier/code"
+	"espalier/grant"
 	"espalier/graph"
 	"espalier/guest"
 	"espalier/index"
@@ -35,7 +36,7 @@ type call struct {
 }
 
 func calls() []call {
-	return slices.Concat(lowCalls(), graphCalls(), termCalls(), queryCalls(), reachCalls(), matchCalls(), bagCalls(), askCalls(), planCalls(), liveCalls(), indexCalls(), packCalls(), storeCalls(), guestCalls())
+	return slices.Concat(lowCalls(), graphCalls(), termCalls(), queryCalls(), reachCalls(), matchCalls(), bagCalls(), askCalls(), planCalls(), liveCalls(), indexCalls(), packCalls(), storeCalls(), guestCalls(), grantCalls())
 }
 
 func lowCalls() []call {
@@ -295,6 +296,35 @@ func guestCalls() []call {
 			u := s.Guest()
 			return []any{u, s.Bag(20, 0, 2), u.At + s.Below(4)}
 		}},
+	}
+}
+
+func grantCalls() []call {
+	who := func(s *sample.Source) ([]api.Grant, string) {
+		l := s.Grants()
+		return l, l[s.Below(len(l))].Who
+	}
+	question := func(s *sample.Source) []any {
+		l, name := who(s)
+		return []any{l, name, s.Loose(), s.Graph(30)}
+	}
+	return []call{
+		{"grant.Check", grant.Check, false, func(s *sample.Source) []any { return []any{s.Grants()} }},
+		{"grant.See", grant.See, false, func(s *sample.Source) []any {
+			l, name := who(s)
+			return []any{l, name, s.Graph(40)}
+		}},
+		{"grant.May", grant.May, false, func(s *sample.Source) []any {
+			l, name := who(s)
+			g := s.Graph(40)
+			ops := s.Ops(g, 8)
+			for len(ops) == 0 {
+				ops = s.Ops(g, 8)
+			}
+			return []any{l, name, g, ops[0]}
+		}},
+		{"grant.Ask", grant.Ask, false, question},
+		{"grant.Kept", grant.Kept, false, question},
 	}
 }
 
