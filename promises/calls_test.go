@@ -18,6 +18,7 @@ import (
 	"espalier/match"
 	"espalier/pack"
 	"espalier/plan"
+	"espalier/port"
 	"espalier/query"
 	"espalier/reach"
 	"espalier/sample"
@@ -36,7 +37,7 @@ type call struct {
 }
 
 func calls() []call {
-	return slices.Concat(lowCalls(), graphCalls(), termCalls(), queryCalls(), reachCalls(), matchCalls(), bagCalls(), askCalls(), planCalls(), liveCalls(), indexCalls(), packCalls(), storeCalls(), guestCalls(), grantCalls())
+	return slices.Concat(lowCalls(), graphCalls(), termCalls(), queryCalls(), reachCalls(), matchCalls(), bagCalls(), askCalls(), planCalls(), liveCalls(), indexCalls(), packCalls(), storeCalls(), guestCalls(), grantCalls(), portCalls())
 }
 
 func lowCalls() []call {
@@ -325,6 +326,16 @@ func grantCalls() []call {
 		}},
 		{"grant.Ask", grant.Ask, false, question},
 		{"grant.Kept", grant.Kept, false, question},
+	}
+}
+
+func portCalls() []call {
+	return []call{
+		{"port.Print", port.Print, false, func(s *sample.Source) []any { return []any{s.Graph(40)} }},
+		{"port.Parse", port.Parse, true, func(s *sample.Source) []any {
+			text, _ := port.Print(s.Graph(40))
+			return []any{text}
+		}},
 	}
 }
 

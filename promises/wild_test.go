@@ -42,6 +42,6 @@ func wildInt(s *sample.Source) int {
 }
 
 func wildText(s *sample.Source) string {
-	l := []string{"", "", "a", "A", "L0", "p1", "T2", "1", "a b", "\xff", "é", "abcdefghijkl", "abcdefghijklm", "+", "and", "null", "[1,null,'it\\'s']", "[[1],", "-0", "match (a) return [a, [1]] as n", "match (a)-[e]->(b) where a.x <", "count"}
+	l := []string{"", "", "a", "A", "L0", "p1", "T2", "1", "a b", "\xff", "é", "abcdefghijkl", "abcdefghijklm", "+", "and", "null", "[1,null,'it\\'s']", "[[1],", "-0", "match (a) return [a, [1]] as n", "match (a)-[e]->(b) where a.x <", "count", "next 2\nnode 1 :L0 p0='a b'\n", "next 2\nnode 1 :L0 p0='a"}
 	return l[s.Below(len(l))]
 }
