@@ -54,7 +54,7 @@ func full() api.Graph {
 	return g
 }
 
-// sized is a graph whose text has so many bytes, from some 39,000 to 42,000.
+// sized is a graph whose text has so many bytes, from some 38,000 to 41,000.
 func sized(long int) api.Graph {
 	g := api.Graph{Nodes: nodes(13), Next: 14}
 	left := long - len("next 14\n") - 9*len("node 1\n") - 4*len("node 10\n")
