@@ -10,6 +10,7 @@ import (
 	"espalier/ask"
 	"espalier/bag"
 	"espalier/code"
+	"espalier/desk"
 	"espalier/grant"
 	"espalier/graph"
 	"espalier/guest"
@@ -37,7 +38,7 @@ type call struct {
 }
 
 func calls() []call {
-	return slices.Concat(lowCalls(), graphCalls(), termCalls(), queryCalls(), reachCalls(), matchCalls(), bagCalls(), askCalls(), planCalls(), liveCalls(), indexCalls(), packCalls(), storeCalls(), guestCalls(), grantCalls(), portCalls())
+	return slices.Concat(lowCalls(), graphCalls(), termCalls(), queryCalls(), reachCalls(), matchCalls(), bagCalls(), askCalls(), planCalls(), liveCalls(), indexCalls(), packCalls(), storeCalls(), guestCalls(), grantCalls(), portCalls(), deskCalls())
 }
 
 func lowCalls() []call {
@@ -337,6 +338,37 @@ func portCalls() []call {
 			return []any{text}
 		}},
 	}
+}
+
+func deskCalls() []call {
+	return []call{
+		{"desk.New", desk.New, false, func(s *sample.Source) []any { return nil }},
+		{"desk.Check", desk.Check, false, func(s *sample.Source) []any {
+			d, _ := asked(s)
+			return []any{d}
+		}},
+		{"desk.Do", desk.Do, true, func(s *sample.Source) []any {
+			d, l := asked(s)
+			return []any{d, l[len(l)-1]}
+		}},
+		{"desk.Run", desk.Run, false, func(s *sample.Source) []any {
+			_, l := asked(s)
+			return []any{l}
+		}},
+		{"desk.Sum", desk.Sum, false, func(s *sample.Source) []any { return []any{s.Bag(9, 0, 1), s.Bag(9, 0, 1), s.Below(2) == 0} }},
+	}
+}
+
+// asked is a desk to which some requests were made: these, but for the last.
+func asked(s *sample.Source) (api.Desk, []api.Request) {
+	d, l := desk.New(), []api.Request{s.Request(api.Graph{}, 0, 0)}
+	for range s.Below(12) {
+		if next, _, e := desk.Do(d, l[len(l)-1]); e == api.OK {
+			d = next
+		}
+		l = append(l, s.Request(d.S.G, len(d.Views), len(d.Guests)))
+	}
+	return d, l
 }
 
 // stored is a store to which some things were done.

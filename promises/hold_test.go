@@ -34,12 +34,20 @@ func hold(t *testing.T, name string, f any, at bool, args []reflect.Value) []ref
 	}
 	if e, ok := got[len(got)-1].Interface().(api.Errno); ok && e != api.OK {
 		for _, v := range got[:len(got)-1] {
-			if !v.IsZero() && !(at && v.Kind() == reflect.Int) {
+			if !beside(v, e, at) {
 				t.Errorf("%s of %v: %v with the error %d", name, args, v, e)
 			}
 		}
 	}
 	return got
+}
+
+// beside tells whether that may stand beside an error: the answer to a request tells it, too.
+func beside(v reflect.Value, e api.Errno, at bool) bool {
+	if a, ok := v.Interface().(api.Answer); ok && at {
+		return v.IsZero() || reflect.DeepEqual(a, api.Answer{E: e, At: a.At})
+	}
+	return v.IsZero() || at && v.Kind() == reflect.Int
 }
 
 // roomy is v with all its lists in memory of their own, with marked room behind each of them.
@@ -163,5 +171,21 @@ func TestHoldSeesWhatIsBroken(t *testing.T) {
 	}
 	if disjoint(pieces([]reflect.Value{reflect.ValueOf([][]int{l[0], l[0]})})) {
 		t.Error("a list stands twice in an answer")
+	}
+	for _, c := range []struct {
+		v       any
+		at, may bool
+	}{
+		{0, false, true}, {1, false, false}, {1, true, true}, {"a", true, false}, {[]int{1}, true, false},
+		{api.Answer{}, true, true},
+		{api.Answer{E: api.ErrWho, At: 3}, true, true},
+		{api.Answer{E: api.ErrWho, At: 3}, false, false},
+		{api.Answer{E: api.ErrMay}, true, false},
+		{api.Answer{E: api.ErrWho, Fresh: true}, true, false},
+		{api.Answer{E: api.ErrWho, IDs: []int{1}}, true, false},
+	} {
+		if beside(reflect.ValueOf(c.v), api.ErrWho, c.at) != c.may {
+			t.Errorf("%v beside an error, %v: not %v", c.v, c.at, c.may)
+		}
 	}
 }

@@ -1,4 +1,4 @@
-// Package sample makes values, graphs, operations, terms, questions, bags of rows, plans, guests and grants for the tests of the other packages: no chance is in it, the same seed makes the same ones.
+// Package sample makes values, graphs, operations, terms, questions, bags of rows, plans, guests, grants and requests for the tests of the other packages: no chance is in it, the same seed makes the same ones.
 package sample
 
 import (
