@@ -10,6 +10,7 @@ import (
 	"espalier/ask"
 	"espalier/bag"
 	"espalier/code"
+	"espalier/crew"
 	"espalier/desk"
 	"espalier/grant"
 	"espalier/graph"
@@ -38,7 +39,7 @@ type call struct {
 }
 
 func calls() []call {
-	return slices.Concat(lowCalls(), graphCalls(), termCalls(), queryCalls(), reachCalls(), matchCalls(), bagCalls(), askCalls(), planCalls(), liveCalls(), indexCalls(), packCalls(), storeCalls(), guestCalls(), grantCalls(), portCalls(), deskCalls())
+	return slices.Concat(lowCalls(), graphCalls(), termCalls(), queryCalls(), reachCalls(), matchCalls(), bagCalls(), askCalls(), planCalls(), liveCalls(), indexCalls(), packCalls(), storeCalls(), guestCalls(), grantCalls(), portCalls(), deskCalls(), crewCalls())
 }
 
 func lowCalls() []call {
@@ -356,6 +357,18 @@ func deskCalls() []call {
 			return []any{l}
 		}},
 		{"desk.Sum", desk.Sum, false, func(s *sample.Source) []any { return []any{s.Bag(9, 0, 1), s.Bag(9, 0, 1), s.Below(2) == 0} }},
+	}
+}
+
+func crewCalls() []call {
+	return []call{
+		{"crew.Ask", crew.Ask, false, func(s *sample.Source) []any {
+			var l []string
+			for range s.Below(7) {
+				l = append(l, s.Question())
+			}
+			return []any{append(l, l...), s.Graph(60)}
+		}},
 	}
 }
 
